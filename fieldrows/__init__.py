@@ -1,0 +1,1 @@
+"""Fieldrows: records and choices with open rows of fields."""
