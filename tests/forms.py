@@ -117,3 +117,39 @@ def random_row(chance, numbers, tails, labels, depth):
         if depth > 0 and chance.randrange(2):
             fields.append((label, random_kind(chance, numbers, tails, labels, depth - 1)))
     return ("row", tuple(fields), chance.choice([None, *tails]))
+
+
+def kind_of(text):
+    """The kind that is written so: fun rec ( a k0 | r1 ) k0."""
+    return scheme_of(text)[0]
+
+
+def scheme_of(text):
+    """The scheme that is written so: fun rec ( a k0 | r1 ) k0 where r1 a."""
+    waiting = text.split(" ")[::-1]
+    kind = taken_kind(waiting)
+    lacks = []
+    if waiting:
+        assert waiting.pop() == "where", text
+    while waiting:
+        lacks.append((int(waiting.pop()[1:]), waiting.pop()))
+    return kind, lacks
+
+
+def taken_kind(waiting):
+    word = waiting.pop()
+    if word == "num":
+        return NUM
+    if word == "fun":
+        first = taken_kind(waiting)
+        return ("fun", first, taken_kind(waiting))
+    if word[0] == "k":
+        return var(int(word[1:]))
+    assert word in ("rec", "one") and waiting.pop() == "(", word
+    fields, tail = [], None
+    while (label := waiting.pop()) != ")":
+        if label == "|":
+            tail = int(waiting.pop()[1:])
+        else:
+            fields.append((label, taken_kind(waiting)))
+    return (word, ("row", tuple(fields), tail))

@@ -11,6 +11,9 @@ ARGUMENTS = {
     "kinds": {"parts": ["K"], "numbers": ["K"], "filled": ["K", "filling"]},
     "schemes": {"named": ["K", "lacks"], "stands_for": ["scheme", "K"]},
     "solving": {"solved": ["pairs", "lacks"]},
+    "finding": {"schemes": ["program"], "inside": ["program", "k"], "hold": ["program", "k", "some"], "clash": ["program"]},
+    "plain": {"run": ["program", "most"]},
+    "offsets": {"offset": ["row", "label", "params"]},
 }
 
 
