@@ -222,3 +222,70 @@ class Drawer:
             met, self.draw(kind, {**known, met: inside}, depth),
             left, self.draw(kind, {**known, left: ("one", less_field(whole[1], label))}, depth),
         )
+
+
+def row_program(chance):
+    """A program that is let, of defs that go through a record or a choice whose row is open, and use one another."""
+    program = []
+    for name in (*DEFS, "main"):
+        while True:
+            E = drawn_main(chance, program) if name == "main" else drawn_passage(chance, program)
+            try:
+                schemes([*program, (name, E)])
+            except NoKind:
+                continue
+            program.append((name, E))
+            break
+    return program
+
+
+def drawn_passage(chance, program):
+    """A function that goes through what it is handed in some steps, each of which may be a use of a def above."""
+    if chance.randrange(5) == 0:
+        # Of two records: the second goes in as a field.
+        body = drawn_steps(chance, ("name", "r"), "rec", program, [("name", "r"), ("name", "s")])
+        return ("fn", "s", ("fn", "r", body))
+    sort = chance.choice(["rec", "rec", "one"])
+    return ("fn", "r", drawn_steps(chance, ("name", "r"), sort, program, [("name", "r")]))
+
+
+def drawn_steps(chance, E, sort, program, near):
+    for _ in range(chance.randrange(1, 5)):
+        E = drawn_step(chance, E, sort, program, near)
+    return E
+
+
+def drawn_step(chance, E, sort, program, near):
+    label = chance.choice("abcde")
+    if program and chance.randrange(3) == 0:
+        return ("do", ("name", chance.choice(program)[0]), E)
+    if sort == "rec":
+        field = chance.choice([("num", chance.randrange(9)), chance.choice(near), ("get", chance.choice("abcde"), near[0])])
+        ways = [("with", label, field, E), ("put", label, field, E), ("less", label, E), ("with", label, field, E)]
+        ways.append(("if", ("get", label, near[0]), E, E))
+        return chance.choice(ways)
+    again = ("tag", chance.choice("abcde"), ("name", "x"))
+    met = chance.choice([again, again, ("wide", label, again)])
+    left = chance.choice([("name", "y"), ("wide", label, ("name", "y"))])
+    return chance.choice([("wide", label, E), ("case", E, label, "x", met, "y", left), ("case", E, label, "x", met, "y", left)])
+
+
+def drawn_main(chance, program):
+    """Some of the defs, used of records and choices of which all is known."""
+    fields = []
+    for label in chance.sample("vwxyz", chance.randrange(1, 4)):
+        E = drawn_record(chance, program) if chance.randrange(3) else ("tag", chance.choice("abcde"), ("num", chance.randrange(9)))
+        for _ in range(chance.randrange(1, 3)):
+            E = ("do", ("name", chance.choice(program)[0]), E)
+        fields.append((label, E))
+    E = ("empty",)
+    for label, field in fields:
+        E = ("with", label, field, E)
+    return E if chance.randrange(4) else fields[0][1]
+
+
+def drawn_record(chance, program):
+    E = ("empty",)
+    for label in chance.sample("abcdefg", chance.randrange(7)):
+        E = ("with", label, ("num", chance.randrange(9)), E)
+    return E

@@ -25,3 +25,41 @@ def of_parts(many):
 
 def sized_defs(first, second):
     return [*SIZES, f"first {of_parts(first)}", f"second {of_parts(second)}"]
+
+
+# For each word that can wait: f of 0 is the first, f of any other number the second, in which {} is f of one less.
+# All of these are let.
+WAITING = {
+    "do, the function": ("1", "do if {} fn x + x 1 fn x x 0"),
+    "do, what it is handed": ("1", "do fn x x {}"),
+    "get": ("with a 1 empty", "with a get a {} empty"),
+    "with, the field": ("1", "get a with a {} empty"),
+    "with, the record": ("empty", "less a with a 1 {}"),
+    "put, the field": ("1", "get a put a {} with a 0 empty"),
+    "put, the record": ("with a 1 empty", "put a 2 {}"),
+    "less": ("with a 1 empty", "with a 1 less a {}"),
+    "tag": ("1", "case tag a {} a x x y 0"),
+    "wide": ("tag b 1", "case wide a {} a x x y y"),
+    "case": ("tag b 1", "case {} b x tag b + x 1 y tag b 0"),
+    "case, its first way": ("1", "case tag a 1 a x {} y 0"),
+    "case, its second way": ("1", "case tag b 1 a x 0 y {}"),
+    "if": ("1", "if {} 1 0"),
+    "if, its first way": ("1", "if 1 {} 0"),
+    "if, its second way": ("1", "if 0 1 {}"),
+    "+, the first": ("1", "+ {} 1"),
+    "+, the second": ("1", "+ 1 {}"),
+    "-, the first": ("1", "- {} 1"),
+    "-, the second": ("1", "- 1 {}"),
+    "*, the first": ("1", "* {} 1"),
+    "*, the second": ("1", "* 1 {}"),
+    "<, the first": ("1", "< {} 1"),
+    "<, the second": ("1", "< 1 {}"),
+}
+
+
+def waiting(word, many):
+    first, other = WAITING[word]
+    step = other.format("do f - n 1")
+    # What do makes here comes with a step of its own.
+    deep = many * 2 // 3 if word.startswith("do") else many
+    return program_of(f"f fn n if n {step} {first}", f"main do f {deep}")

@@ -14,6 +14,10 @@ ARGUMENTS = {
     "finding": {"schemes": ["program"], "inside": ["program", "k"], "hold": ["program", "k", "some"], "clash": ["program"]},
     "plain": {"run": ["program", "most"]},
     "offsets": {"offset": ["row", "label", "params"]},
+    "making": {"made": ["program"]},
+    "machine": {"run_made": ["code", "most"], "read_by": ["K", "W"]},
+    "showing": {"shown_kind": ["K"], "shown_scheme": ["scheme"], "shown_value": ["V"]},
+    "desk": {"answered": ["text", "most"]},
 }
 
 

@@ -199,6 +199,27 @@ class Language(unittest.TestCase):
                 if node.attr in PYTHONS_OWN_METHODS:
                     self.assertIn(node.attr, METHODS, where)
 
+    def test_methods_and_values_of_objects(self):
+        own = {name for tree in self.trees.values() for name in methods_defined(tree)}
+        for where, node in self.nodes():
+            if isinstance(node, ast.Attribute) and isinstance(node.ctx, ast.Store):
+                self.assertNotIn(node.attr, own, where)
+                self.assertNotIn(node.attr, PYTHONS_OWN_METHODS, where)
+
+    def test_walked_at_once(self):
+        walked = ("zip", "enumerate", "reversed", "range")
+        around = ("list", "tuple", "dict", "sorted", "sum", "any", "all", "enumerate", "zip", "min", "max")
+        for path, tree in self.trees.items():
+            right = []
+            for node in ast.walk(tree):
+                if isinstance(node, (ast.For, ast.comprehension)):
+                    right.append(node.iter)
+                if isinstance(node, ast.Call) and isinstance(node.func, ast.Name) and node.func.id in around:
+                    right.extend(node.args[:1])
+            for node in ast.walk(tree):
+                if isinstance(node, ast.Call) and isinstance(node.func, ast.Name) and node.func.id in walked:
+                    self.assertIn(node, right, f"{path.name}:{node.lineno}")
+
 
 if __name__ == "__main__":
     unittest.main()

@@ -7,7 +7,7 @@ import unittest
 from fieldrows.plain import run
 from fieldrows.texts import read
 from drawing import any_program
-from programs import program_of
+from programs import WAITING, program_of, waiting
 
 FN = ("fn",)
 
@@ -311,43 +311,6 @@ class Steps(Running):
         for line in ("main main", "main + 1 main", "main do fn x do x x fn x do x x", "main do main main"):
             for most in (0, 1, 999, 1000):
                 self.assertEqual(run(program_of(line), most), ("tired", most, None))
-
-
-# For each word that can wait: f of 0 is the first, f of any other number the second, in which {} is f of one less.
-WAITING = {
-    "do, the function": ("keep", "do {} 2"),
-    "do, what it is handed": ("1", "do fn x x {}"),
-    "get": ("with a 1 empty", "with a get a {} empty"),
-    "with, the field": ("1", "get a with a {} empty"),
-    "with, the record": ("empty", "less a with a 1 {}"),
-    "put, the field": ("1", "get a put a {} with a 0 empty"),
-    "put, the record": ("with a 1 empty", "put a 2 {}"),
-    "less": ("with a 1 empty", "with a 1 less a {}"),
-    "tag": ("1", "case tag a {} a x x y 0"),
-    "wide": ("tag b 1", "case wide a {} a x x y y"),
-    "case": ("tag b 1", "case {} b x tag b + x 1 y y"),
-    "case, its first way": ("1", "case tag a 1 a x {} y 0"),
-    "case, its second way": ("1", "case tag b 1 a x 0 y {}"),
-    "if": ("1", "if {} 1 0"),
-    "if, its first way": ("1", "if 1 {} 0"),
-    "if, its second way": ("1", "if 0 1 {}"),
-    "+, the first": ("1", "+ {} 1"),
-    "+, the second": ("1", "+ 1 {}"),
-    "-, the first": ("1", "- {} 1"),
-    "-, the second": ("1", "- 1 {}"),
-    "*, the first": ("1", "* {} 1"),
-    "*, the second": ("1", "* 1 {}"),
-    "<, the first": ("1", "< {} 1"),
-    "<, the second": ("1", "< 1 {}"),
-}
-
-
-def waiting(word, many):
-    first, other = WAITING[word]
-    step = other.format("do f - n 1")
-    # The functions that keep and fn make here come with steps of their own.
-    deep = many * 2 // {"do, the function": 4, "do, what it is handed": 3}.get(word, 2)
-    return program_of("keep fn u keep", f"f fn n if n {step} {first}", f"main do f {deep}")
 
 
 class AThousand(Running):

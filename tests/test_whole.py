@@ -6,9 +6,11 @@ import unittest
 
 from fieldrows.errors import NoKind
 from fieldrows.finding import clash, hold, inside, schemes
-from fieldrows.plain import run
+from fieldrows.machine import read_by, run_made
+from fieldrows.making import made
 from fieldrows.places import places
-from drawing import any_program, let_program
+from fieldrows.plain import run
+from drawing import any_program, let_program, row_program
 from reckoned import Naive
 from refusing import Refusing
 
@@ -17,15 +19,27 @@ class Whole(Refusing):
     def let(self, program):
         """What is promised of a program that is let."""
         self.assertIsNone(clash(program))
-        self.assertEqual(len(schemes(program)), len(program))
-        for most in (0, 1, 7, 60, 1000):
+        found = schemes(program)
+        self.assertEqual(len(found), len(program))
+        code = made(program)
+        enough = run(program, 1000)[1]
+        for most in {0, 1, 2, 3, 7, 60, 1000, enough, max(0, enough - 1)}:
             word, steps, what = run(program, most)
             self.assertIn(word, ("value", "tired"), program)
             self.assertNotEqual(what, ("deep",))
             self.assertTrue(steps <= most if word == "value" else (steps, what) == (most, None))
+            self.made_alike(found[-1][0], code, most, (word, steps, what))
+
+    def made_alike(self, kind, code, most, told):
+        """The made program ends with the same word and the same steps, and its value, read by main's kind, is the same."""
+        word, steps, what = run_made(code, most)
+        if word == "value":
+            what = read_by(kind, what)
+        self.assertEqual((word, steps, what), told, code)
 
     def not_let(self, program):
         self.refused(schemes, program, NoKind)
+        self.refused(made, program, NoKind)
         name, stayed = clash(program)
         k = [other for other, E in program].index(name)
         for above in range(k):
@@ -47,6 +61,30 @@ class Whole(Refusing):
         self.assertGreater(min(words.values()), 20)
         self.assertEqual(len(words), 18)
         self.assertGreater(min(ends.values()), 20)
+
+    def test_programs_that_go_through_open_rows(self):
+        chance = random.Random(76)
+        many, ends = collections.Counter(), collections.Counter()
+        for _ in range(150):
+            program = row_program(chance)
+            self.let(program)
+            many.update(params for name, params, code in made(program))
+            ends[run(program, 1000)[0]] += 1
+        self.assertGreater(min(many[params] for params in range(5)), 20)
+        self.assertEqual(ends["value"], 150)
+
+    def test_each_number_of_steps(self):
+        chance = random.Random(77)
+        met = 0
+        while met < 12:
+            program = chance.choice([let_program, row_program])(chance)
+            code = made(program)
+            enough = run(program, 1000)[1]
+            if enough < 3:
+                continue
+            met += 1
+            for most in [*range(min(enough + 3, 60)), enough - 1, enough, 1000]:
+                self.made_alike(schemes(program)[-1][0], code, most, run(program, most))
 
     def test_any_programs(self):
         chance = random.Random(72)
