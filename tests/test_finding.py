@@ -452,13 +452,36 @@ class TheWidest(Finding):
         alike, none = 0, 0
         while alike + none < 250:
             E = any_expression(chance, ["it"], chance.choice([1, 2, 2, 3]))
-            if len(places(E)) > 9 or sum({"fn": 1, "case": 2}.get(place[0], 0) for place in places(E)) > 3:
+            if not self.is_small(E):
                 continue
-            if self.compared([("it", E), ("main", ("num", 0))], {}):
+            if self.compared([("it", E)]):
                 alike += 1
             else:
                 none += 1
         self.assertGreater(min(alike, none), 50)
+
+    def test_uses_of_a_def_above(self):
+        chance = random.Random(45)
+        above = [
+            program_of(f"f {line}")[0]
+            for line in (
+                "fn r get a r", "fn r with a 1 r", "fn r less a r", "fn r less b with b 1 r", "fn x tag a x", "fn c wide b c",
+                "fn c case c a x x y 0", "fn x x", "tag a 1", "f",
+            )
+        ]
+        alike, none = 0, 0
+        while alike + none < 200:
+            E = any_expression(chance, ["f"], chance.choice([1, 2, 2, 3]))
+            if not self.is_small(E) or ("name", "f") not in places(E):
+                continue
+            if self.compared([chance.choice(above), ("it", E)]):
+                alike += 1
+            else:
+                none += 1
+        self.assertGreater(min(alike, none), 25)
+
+    def is_small(self, E):
+        return len(places(E)) <= 9 and sum({"fn": 1, "case": 2}.get(place[0], 0) for place in places(E)) <= 3
 
     def test_known_ones(self):
         for expression in (
@@ -466,20 +489,22 @@ class TheWidest(Finding):
             "fn c case c a x x y 0", "fn c case c a x tag b x y y", "fn c never c", "fn x fn y x", "fn n if n n 1",
             "fn r do it put a 1 r", "fn r less b with b 1 r",
         ):
-            self.assertTrue(self.compared(program_of(f"it {expression}"), {}))
+            self.assertTrue(self.compared(program_of(f"it {expression}")[:1]))
 
-    def compared(self, program, above):
-        name, E = program[0]
+    def compared(self, defs):
+        """Whether the last of these defs has kinds, of which the small world then tells no others."""
+        name, E = defs[-1]
+        above = {told[0]: scheme for told, scheme in zip(defs, schemes(defs[:-1]))}
         found = World(SMALL, above).kinds_of_def(name, E)
         try:
-            scheme = schemes(program)[0]
+            scheme = schemes(defs)[-1]
         except NoKind:
-            self.assertEqual(found, set(), program)
+            self.assertEqual(found, set(), defs)
             return False
-        self.assertEqual({kind for kind in found if not stands_for(scheme, kind)}, set(), program)
+        self.assertEqual({kind for kind in found if not stands_for(scheme, kind)}, set(), defs)
         # Each kind that it stands for can be had; that the way to it leads out of the small world is seldom.
         stood_for = {kind for kind in SMALL if stands_for(scheme, kind)}
-        self.assertTrue(found == stood_for or len(places(E)) > 4, (program, found, stood_for))
+        self.assertTrue(found == stood_for or len(places(E)) > 4, (defs, found, stood_for))
         return True
 
 
